@@ -1,0 +1,1 @@
+"""Timegranary: a store of points in time."""
