@@ -17,17 +17,20 @@ BUILTINS = set(
 METHODS = set(
     "append clear copy count endswith extend find get index insert isalnum isalpha isdigit islower isspace isupper "
     "items join keys ljust lower lstrip partition pop remove replace reverse rfind rjust rpartition rsplit rstrip "
-    "setdefault split splitlines startswith strip update upper values zfill bit_length __init__".split()
+    "setdefault split splitlines startswith strip update upper values zfill bit_length title capitalize swapcase "
+    "casefold center expandtabs removeprefix removesuffix rindex isascii isdecimal isnumeric istitle isidentifier "
+    "isprintable translate __init__".split()
 )
+# The operators of L5 come in here when the package first has one: they bring rules of their own.
 OWN_DOUBLES = set("__init__ __eq__ __repr__ __str__ __len__ __enter__ __exit__ __call__ __iter__".split())
 BARRED_WORDS = re.compile(
     r"\b(type|typing|typing_extensions|enum|Enum|IntEnum|StrEnum|Flag|IntFlag|Generic|Protocol|ABC|ABCMeta|"
     r"namedtuple|NamedTuple|TypedDict|TYPE_CHECKING|abstractmethod)\b|dataclass|overload|contextmanager"
 )
 BARRED_NAMES = set(
-    "register mro elements open input law version_info with_traceback add_note format format_map eval exec id "
-    "type vars dir help exit quit".split()
+    "register mro elements open input law version_info with_traceback add_note format format_map".split()
 )
+LISTS_ALONE = set("any all min max sum sorted".split())
 
 
 def trees():
@@ -59,7 +62,7 @@ class Language(unittest.TestCase):
         for path in PACKAGE.glob("*.py"):
             text = path.read_bytes()
             self.assertEqual([sign for sign in text if not (32 <= sign <= 126 or sign == 10)], [], path.name)
-            lines = text.decode("ascii").split("\n")
+            lines = text.decode("ascii").splitlines()
             self.assertLessEqual(len(lines), 399, path.name)
             self.assertEqual([line for line in lines if len(line) > 120], [], path.name)
         for place, node in nodes((ast.FunctionDef, ast.Lambda)):
@@ -89,9 +92,12 @@ class Language(unittest.TestCase):
     def test_statements_and_expressions(self):
         barred = (
             ast.Global, ast.AsyncFunctionDef, ast.AsyncFor, ast.AsyncWith, ast.Await, ast.Div, ast.MatMult,
-            ast.GeneratorExp,
         )
         self.assertEqual([place for place, node in nodes(barred)], [])
+        # Labels has an __eq__, so L7 wants a list here.
+        for place, node in nodes(ast.Call):
+            if isinstance(node.func, ast.Name) and node.func.id in LISTS_ALONE:
+                self.assertNotIsInstance(node.args[0], ast.GeneratorExp, place)
 
     def test_strings_and_numbers(self):
         for place, node in nodes(ast.Constant):
