@@ -140,6 +140,97 @@ class Language(unittest.TestCase):
                 if isinstance(sign, (ast.Is, ast.IsNot)):
                     self.assertIsInstance(other, ast.Constant, place)
 
+    def test_no_local_name_is_that_of_a_class_or_an_import_of_its_file(self):
+        for name, tree in trees():
+            taken = {alias.name for row in tree.body if isinstance(row, ast.ImportFrom) for alias in row.names}
+            taken |= {row.name for row in tree.body if isinstance(row, ast.ClassDef)}
+            for node in ast.walk(tree):
+                if isinstance(node, ast.arg):
+                    self.assertNotIn(node.arg, taken, f"{name}:{node.lineno}")
+                if isinstance(node, ast.Name) and isinstance(node.ctx, ast.Store):
+                    self.assertNotIn(node.id, taken, f"{name}:{node.lineno}")
+
+    def test_attributes_that_are_read_are_assigned(self):
+        assigned = {node.attr for place, node in nodes(ast.Attribute) if isinstance(node.ctx, ast.Store)}
+        allowed = assigned | own_methods() | METHODS
+        for place, node in nodes(ast.Attribute):
+            self.assertIn(node.attr, allowed, place)
+
+    def test_no_imports_in_a_circle(self):
+        imports = {
+            f"timegranary.{name[:-3]}": [row.module for row in tree.body if isinstance(row, ast.ImportFrom)]
+            for name, tree in trees()
+        }
+        done = []
+        while len(done) < len(imports):
+            ready = [name for name in imports if name not in done and set(imports[name]) <= set(done)]
+            self.assertNotEqual(ready, [], "imports in a circle")
+            done += ready
+
+    def test_errors_are_own_ones_made_on_the_spot(self):
+        own = {node.name for place, node in nodes(ast.ClassDef) if node.bases}
+        for place, node in nodes(ast.ExceptHandler):
+            self.assertIn(node.type.id, own, place)
+        for place, node in nodes(ast.Raise):
+            self.assertIn(node.exc.func.id, own, place)
+
+    def test_a_finally_assigns_plain_values_alone(self):
+        for place, node in nodes(ast.Try):
+            for row in node.finalbody:
+                self.assertIsInstance(row, ast.Assign, place)
+                self.assertIsInstance(row.value, (ast.Constant, ast.Name, ast.Attribute), place)
+
+    def test_sets_stand_in_sorted_alone(self):
+        within = set()
+        for place, node in nodes(ast.Call):
+            if isinstance(node.func, ast.Name) and node.func.id == "sorted" and not node.keywords:
+                within.add(ast.dump(node.args[0], include_attributes=True))
+        for place, node in nodes((ast.SetComp, ast.Set)):
+            self.assertIn(ast.dump(node, include_attributes=True), within, place)
+        for place, node in nodes(ast.Call):
+            if isinstance(node.func, ast.Name) and node.func.id in ("set", "frozenset"):
+                self.assertIn(ast.dump(node, include_attributes=True), within, place)
+
+    def test_double_underscore_methods(self):
+        told = {
+            "__len__": (ast.Call,), "__repr__": (ast.Constant, ast.JoinedStr, ast.Call),
+            "__str__": (ast.Constant, ast.JoinedStr, ast.Call),
+        }
+        for place, node in nodes(ast.FunctionDef):
+            returns = [row.value for row in ast.walk(node) if isinstance(row, ast.Return)]
+            if node.name == "__init__":
+                self.assertEqual(returns, [], place)
+            if node.name == "__len__":
+                self.assertEqual([value.func.id for value in returns], ["len"] * len(returns), place)
+            if node.name in ("__eq__", *told):
+                self.assertIsInstance(node.body[-1], ast.Return, place)
+                self.assertEqual([row for row in ast.walk(node) if isinstance(row, (ast.Assign, ast.AugAssign))], [])
+                for value in returns:
+                    self.assertIsInstance(value, told.get(node.name, ast.AST), place)
+
+    def test_default_values_are_plain(self):
+        kinds = (ast.Constant, ast.Tuple, ast.UnaryOp, ast.Name)
+        for place, node in nodes(ast.arguments):
+            self.assertEqual((node.posonlyargs, node.vararg, node.kwarg), ([], None, None), place)
+            for default in node.defaults + node.kw_defaults:
+                if default is not None:
+                    self.assertIsInstance(default, kinds, place)
+
+    def test_no_f_string_over_two_lines_and_no_string_within_one(self):
+        for place, node in nodes(ast.JoinedStr):
+            self.assertEqual(node.lineno, node.end_lineno, place)
+            for part in node.values:
+                if isinstance(part, ast.FormattedValue):
+                    inner = [row for row in ast.walk(part.value) if isinstance(row, ast.Constant)]
+                    self.assertEqual([row for row in inner if isinstance(row.value, str)], [], place)
+
+    def test_what_is_iterated_at_once_is_not_stored(self):
+        for place, node in nodes(ast.Assign):
+            if isinstance(node.value, ast.Call):
+                called = node.value.func
+                self.assertNotIn(getattr(called, "id", ""), ("zip", "enumerate", "reversed", "range"), place)
+                self.assertNotIn(getattr(called, "attr", ""), ("items", "keys", "values"), place)
+
 
 if __name__ == "__main__":
     unittest.main()
