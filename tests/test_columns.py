@@ -347,6 +347,8 @@ class Columns(unittest.TestCase):
                     self.assertEqual(column.looked(), 0)
                     column.part(place, 200)
                     self.assertEqual(column.looked(), 0)
+                    column.part(place, place)
+                    self.assertEqual(column.looked(), 0)
 
     def test_looked_is_of_the_last_one_or_part(self):
         for way in ("steps", "turns", "runs"):
@@ -361,8 +363,10 @@ class Columns(unittest.TestCase):
                 with self.assertRaises(NoPlace):
                     refused()
                 self.assertEqual(column.looked(), far)
-            column.part(0, 64)
-            self.assertEqual(column.looked(), 0)
+            for start, end in ((0, 64), (0, 0)):
+                column.one(31)
+                column.part(start, end)
+                self.assertEqual(column.looked(), 0)
 
     def test_looked_counts_runs(self):
         column = pack([4] * 20 + [5] * 20, way="runs")
@@ -536,9 +540,11 @@ class ReadColumns(unittest.TestCase):
         self.assertEqual(self.refused_at("book", head + codes[0] + "11", 2), len(head) + 3)
 
     def test_great_heads(self):
-        self.assertEqual(self.refused_at("plain", own(0) + own(10 ** 30), 1), len(own(0) + own(10 ** 30)))
-        self.assertEqual(self.refused_at("plain", own(0) + own(10 ** 30) + "0101", 5), len(own(0) + own(10 ** 30)))
-        self.assertEqual(self.refused_at("book", own(10 ** 30) + own(0) + own(3), 1), len(own(10 ** 30) + own(0) + own(3)))
+        head = own(0) + own(10 ** 30)
+        self.assertEqual(self.refused_at("plain", head, 1), len(head))
+        self.assertEqual(self.refused_at("plain", head + "0101", 5), len(head))
+        book = own(10 ** 30) + own(0) + own(3)
+        self.assertEqual(self.refused_at("book", book, 1), len(book))
 
     def test_as_the_model_of_all_short_bits(self):
         for length in range(10):

@@ -23,6 +23,8 @@ FUNCTIONS = {
         "known": "(rows, number)", "changes": "(rows, one, two)", "needless": "(rows, number)",
         "thinned": "(rows, number)", "poured": "(one, two)",
     },
+    "blocks": {"read_block": "(text)"},
+    "logs": {"line_of": "(number, body, *, sign='.')", "read_line": "(line)", "read_log": "(text)"},
 }
 
 # Of each class what it is made of (None where the interface doesn't tell it), and its methods.
@@ -43,6 +45,31 @@ CLASSES = {
         "Column": (None, {
             "unpacked": "(self)", "part": "(self, start, end)", "one": "(self, place)", "looked": "(self)",
         }),
+    },
+    "blocks": {
+        "Block": ("(rows, *, weight=None)", {
+            "places": "(self)", "columns_of": "(self, place)", "rows_in": "(self, place, start, end)",
+            "extents": "(self)", "text": "(self)",
+        }),
+    },
+    "logs": {
+        "Log": ("()", {
+            "write": "(self, body)", "mark": "(self, body)", "bundle": "(self, bodies)", "lines": "(self)",
+            "text": "(self)", "trimmed": "(self)",
+        }),
+    },
+    "grains": {
+        "Grains": ("(widths)", {
+            "renew": "(self, place, times, points_in, *, number)", "fold_at": "(self, place, width, time)",
+            "since_at": "(self, place, width, time)", "cells_of": "(self, place, width)",
+            "let_go": "(self, width, time)", "right": "(self, place, points)",
+        }),
+    },
+    "keeping": {
+        "Keeping": ("(widths, keeps)", {
+            "expire": "(self, now)", "gone_before": "(self, width=None)", "finest": "(self, time)",
+        }),
+        "Edges": ("()", {"moved": "(self, place, points, horizon)", "edge_of": "(self, place)"}),
     },
 }
 
