@@ -1,4 +1,4 @@
-"""Blocks: rows of several series, kept and written as columns of bits."""
+"""Blocks: rows of several series, told and written as columns of bits."""
 
 from timegranary.checks import check, with_check
 from timegranary.columns import WAYS, pack, read_column
