@@ -4,6 +4,8 @@ import importlib
 import inspect
 import unittest
 
+STORE_MADE = "widths=(60, 3600), keeps=(None, None, None)"
+
 FUNCTIONS = {
     "times": {
         "cell_of": "(time, width)", "cells": "(start, end, width)", "tidy": "(stretches)", "joined": "(one, two)",
@@ -25,6 +27,21 @@ FUNCTIONS = {
     },
     "blocks": {"read_block": "(text)"},
     "logs": {"line_of": "(number, body, *, sign='.')", "read_line": "(line)", "read_log": "(text)"},
+    "plans": {
+        "least_plan": "(start, end, *, horizon=None, cells=(), points=())",
+        "is_plan": "(pieces, start, end, *, horizon=None, cells=())", "cost_of": "(pieces, points)",
+        "shows_least": "(thing, start, end, *, horizon=None, cells=(), points=())",
+    },
+    "shelves": {"level": "(weight)"},
+    "store": {"come_up": f"(text, *, mark=None, {STORE_MADE})"},
+    "asks": {
+        "answered": "(store, ask, frame, *, number=None)", "parts_of": "(ask)", "shorter": "(ask)",
+    },
+    "texts": {
+        "wishes_text": "(wishes)", "deed_text": "(deed)", "ask_text": "(ask)", "fold_text": "(fold)",
+        "read_labels": "(text)", "read_wishes": "(text)", "read_deed": "(text)", "read_ask": "(text)",
+    },
+    "houses": {"alike": "(one, two)", "store_of": f"(house, *, {STORE_MADE})"},
 }
 
 # Of each class what it is made of (None where the interface doesn't tell it), and its methods.
@@ -71,7 +88,49 @@ CLASSES = {
         }),
         "Edges": ("()", {"moved": "(self, place, points, horizon)", "edge_of": "(self, place)"}),
     },
+    "shelves": {
+        "Shelf": ("(blocks=())", {
+            "laid": "(self, block)", "forgotten": "(self, number)", "let_go": "(self, time)", "weights": "(self)",
+            "rows_of": "(self, place, start, end)", "block_texts": "(self)",
+        }),
+    },
+    "store": {
+        "Store": (f"(*, {STORE_MADE})", {
+            "put": "(self, labels, time, worth)", "put_all": "(self, rows)", "strike": "(self, wishes, start, end)",
+            "expire": "(self, now)", "forget": "(self, number)", "flush": "(self)", "weights": "(self)",
+            "found": "(self, wishes, *, number=None)", "points": "(self, wishes, start, end, *, number=None)",
+            "folds": "(self, wishes, start, end, *, number=None)",
+            "windows": "(self, wishes, start, *, step, many=1, number=None)",
+            "latest": "(self, labels, time, *, number=None)", "plan": "(self, labels, start, end, *, number=None)",
+            "snapshot": "(self)", "lines": "(self)", "mark": "(self)",
+            "watch": "(self, wishes, start, *, width, many=1)",
+        }),
+        "Snapshot": (None, {
+            "found": "(self, wishes)", "points": "(self, wishes, start, end)", "folds": "(self, wishes, start, end)",
+            "windows": "(self, wishes, start, *, step, many=1)", "latest": "(self, labels, time)",
+            "plan": "(self, labels, start, end)",
+        }),
+    },
+    "watchers": {"Watch": (None, {"told": "(self)", "now": "(self)"})},
+    "asks": {"Frame": ("(start, step, many=1)", {})},
+    "desk": {
+        "Desk": (f"(*, {STORE_MADE})", {"say": "(self, row)", "say_all": "(self, rows, *, stop=True)"}),
+    },
+    "houses": {
+        "House": ("(name)", {
+            "put": "(self, labels, time, worth)", "strike": "(self, wishes, start, end)", "hear": "(self, deed)",
+            "points": "(self, labels)", "series": "(self)", "stamps": "(self)", "letter": "(self, stamps)",
+        }),
+    },
 }
+
+# The fields that the interface lists, of objects as they are made.
+FIELDS = (
+    (lambda: module_of("store").Store(), ("number",)),
+    (lambda: module_of("asks").Frame(0, 1), ("start", "step", "many")),
+    (lambda: module_of("desk").Desk(), ("heard", "done", "ready")),
+    (lambda: module_of("houses").House("a"), ("name",)),
+)
 
 
 def module_of(name):
@@ -97,6 +156,27 @@ class Interface(unittest.TestCase):
                         self.assertEqual(str(inspect.signature(made)), arguments)
                     for method, told in methods.items():
                         self.assertEqual(str(inspect.signature(vars(made)[method])), told)
+
+    def test_fields_are_there_when_an_object_is_made(self):
+        for make, names in FIELDS:
+            made = make()
+            for name in names:
+                self.assertIn(name, vars(made))
+
+    def test_widths_and_keeps(self):
+        self.assertEqual(module_of("store").WIDTHS, (60, 3600))
+        self.assertEqual(module_of("store").KEEPS, (None, None, None))
+
+    def test_objects_are_never_equal_to_things_of_another_kind(self):
+        store = module_of("store").Store()
+        things = [
+            store, store.snapshot(), store.watch([], 0, width=1), module_of("shelves").Shelf(),
+            module_of("asks").Frame(0, 1), module_of("desk").Desk(), module_of("houses").House("a"),
+        ]
+        for at, thing in enumerate(things):
+            for other in [*things[:at], *things[at + 1:], None, 0, "a", (), [], {}, "-"]:
+                self.assertFalse(thing == other)
+                self.assertTrue(thing != other)
 
 
 if __name__ == "__main__":

@@ -170,7 +170,8 @@ class Language(unittest.TestCase):
     def test_errors_are_own_ones_made_on_the_spot(self):
         own = {node.name for place, node in nodes(ast.ClassDef) if node.bases}
         for place, node in nodes(ast.ExceptHandler):
-            self.assertIn(node.type.id, own, place)
+            for caught in node.type.elts if isinstance(node.type, ast.Tuple) else [node.type]:
+                self.assertIn(caught.id, own, place)
         for place, node in nodes(ast.Raise):
             self.assertIn(node.exc.func.id, own, place)
 
@@ -180,10 +181,10 @@ class Language(unittest.TestCase):
                 self.assertIsInstance(row, ast.Assign, place)
                 self.assertIsInstance(row.value, (ast.Constant, ast.Name, ast.Attribute), place)
 
-    def test_sets_stand_in_sorted_alone(self):
+    def test_sets_stand_in_sorted_and_len_alone(self):
         within = set()
         for place, node in nodes(ast.Call):
-            if isinstance(node.func, ast.Name) and node.func.id == "sorted" and not node.keywords:
+            if isinstance(node.func, ast.Name) and node.func.id in ("sorted", "len") and not node.keywords:
                 within.add(ast.dump(node.args[0], include_attributes=True))
         for place, node in nodes((ast.SetComp, ast.Set)):
             self.assertIn(ast.dump(node, include_attributes=True), within, place)
@@ -207,6 +208,44 @@ class Language(unittest.TestCase):
                 self.assertEqual([row for row in ast.walk(node) if isinstance(row, (ast.Assign, ast.AugAssign))], [])
                 for value in returns:
                     self.assertIsInstance(value, told.get(node.name, ast.AST), place)
+
+    def test_a_star_in_a_call_stands_ahead_of_a_name_in_zip_alone(self):
+        for place, node in nodes(ast.Call):
+            for part in node.args:
+                if isinstance(part, ast.Starred):
+                    self.assertEqual((node.func.id, type(part.value)), ("zip", ast.Name), place)
+
+    def test_tables_at_module_level_are_of_plain_values_and_own_functions(self):
+        kinds = (
+            ast.Constant, ast.Tuple, ast.List, ast.Dict, ast.Name, ast.Load, ast.UnaryOp, ast.USub,
+        )
+        for name, tree in trees():
+            functions = {row.name for row in tree.body if isinstance(row, ast.FunctionDef)}
+            for row in tree.body:
+                for node in ast.walk(row.value) if isinstance(row, ast.Assign) else ():
+                    self.assertIsInstance(node, kinds, f"{name}:{row.lineno}")
+                    if isinstance(node, ast.Name):
+                        self.assertIn(node.id, functions, f"{name}:{row.lineno}")
+                    if isinstance(node, (ast.List, ast.Dict)):
+                        self.assertIs(node, row.value, f"{name}:{row.lineno}")
+
+    def test_a_table_of_functions_is_not_called_where_it_stands(self):
+        for place, node in nodes(ast.Call):
+            self.assertNotIsInstance(node.func, (ast.Subscript, ast.Call, ast.Constant), place)
+
+    def test_loops_do_not_change_what_they_go_through(self):
+        changing = set("append clear extend insert pop remove reverse setdefault update add discard sort".split())
+        for place, node in nodes((ast.For, ast.comprehension)):
+            if isinstance(node, ast.comprehension) or not isinstance(node.iter, (ast.Name, ast.Attribute)):
+                continue
+            looped = ast.unparse(node.iter)
+            for row in node.body:
+                for part in ast.walk(row):
+                    if isinstance(part, ast.Call) and isinstance(part.func, ast.Attribute):
+                        if part.func.attr in changing:
+                            self.assertNotEqual(ast.unparse(part.func.value), looped, place)
+                    if isinstance(part, ast.Subscript) and isinstance(part.ctx, (ast.Store, ast.Del)):
+                        self.assertNotEqual(ast.unparse(part.value), looped, place)
 
     def test_default_values_are_plain(self):
         kinds = (ast.Constant, ast.Tuple, ast.UnaryOp, ast.Name)

@@ -42,9 +42,13 @@ class Block:
         worths = [worth for time, number, worth in rows if worth is not None]
         return pack(times), pack(numbers), pack(there), pack(worths)
 
+    def rows_at(self, place):
+        """All rows of a series, none where it isn't among the block's."""
+        return list(self.kept.get(place, ()))
+
     def rows_in(self, place, start, end):
         """The rows of a series in a stretch."""
-        return [row for row in self.kept.get(place, ()) if start <= row[0] < end]
+        return [row for row in self.rows_at(place) if start <= row[0] < end]
 
     def extents(self):
         """The least and the greatest time, the least and the greatest number, None without rows."""

@@ -1,6 +1,7 @@
 """Folds: what is told of points in sum, without the points."""
 
 from timegranary.errors import NoOrder, NoWhat
+from timegranary.wholes import greatest_common
 
 WHATS = ("count", "sum", "least", "greatest", "first", "last", "mean", "spread", "rise", "held")
 
@@ -127,10 +128,7 @@ def beside(one, two):
 
 def lowest(top, bottom):
     """The number top by bottom, a bottom above 0, in lowest terms."""
-    common = abs(top)
-    left = bottom
-    while left > 0:
-        common, left = left, common % left
+    common = greatest_common(abs(top), bottom)
     return top // common, bottom // common
 
 

@@ -14,6 +14,15 @@ def folds_by_cell(points, width):
     return {start: fold_of(group) for start, group in groups.items()}
 
 
+def joined_folds(folds, width):
+    """By starts, rising, the folds of the cells of a width, put together of folds of finer cells by their starts."""
+    wholes = {}
+    for cell in sorted(folds):
+        start = cell_of(cell, width)
+        wholes[start] = together(wholes.get(start, Fold()), folds[cell])
+    return wholes
+
+
 def drop_cells(kept, horizon):
     """Take out of kept cells those that begin below a horizon, and tell how many with points there were."""
     dropped = [start for start in kept if start < horizon]
@@ -41,11 +50,8 @@ class Grains:
         told = list(times)
         folds_by_width = {self.widths[0]: self.asked_anew(told, points_in)}
         for finer, width in zip(self.widths, self.widths[1:]):
-            anew = folds_by_width[finer]
             starts = self.cells_with(told, width)
-            folds_by_width[width] = {
-                start: self.joined_fold(place, finer, anew, start, start + width) for start in starts
-            }
+            folds_by_width[width] = self.joined_anew(place, finer, folds_by_width[finer], width, starts)
         return self.settled(place, folds_by_width, number)
 
     def fold_at(self, place, width, time):
@@ -82,6 +88,14 @@ class Grains:
             if self.full_folds(place, width) != left:
                 return False
         return True
+
+    def twin(self):
+        """Other grains that keep the same, and go on by themselves."""
+        twin = Grains(self.widths)
+        for width in self.widths:
+            twin.kept[width] = {place: dict(kept) for place, kept in self.kept[width].items()}
+        twin.horizons = dict(self.horizons)
+        return twin
 
     def check_idle(self):
         """Refuse a deed while renew is under way."""
@@ -122,15 +136,14 @@ class Grains:
             self.busy = False
         return folds
 
-    def joined_fold(self, place, finer, anew, start, end):
-        """The fold of a stretch by the cells of a finer width in it: those made anew and the other kept ones."""
+    def joined_anew(self, place, finer, anew, width, starts):
+        """By starts the folds of cells, put together of finer cells: those made anew and the other kept ones."""
+        wanted = {start: True for start in starts}
         kept = self.kept_cells(place, finer)
-        folds = {cell: kept[cell][0] for cell in kept if start <= cell < end}
-        folds.update({cell: anew[cell] for cell in anew if start <= cell < end})
-        whole = Fold()
-        for cell in sorted(folds):
-            whole = together(whole, folds[cell])
-        return whole
+        folds = {cell: kept[cell][0] for cell in kept if cell_of(cell, width) in wanted}
+        folds.update({cell: anew[cell] for cell in anew if cell_of(cell, width) in wanted})
+        wholes = joined_folds(folds, width)
+        return {start: wholes.get(start, Fold()) for start in starts}
 
     def settled(self, place, folds_by_width, number):
         """Keep the folds that are other ones now, and tell them."""

@@ -67,6 +67,12 @@ class Keeping:
                 return grain
         return None
 
+    def twin(self):
+        """Another keeping with the same horizons, which goes on by itself."""
+        twin = Keeping(self.widths, self.keeps)
+        twin.horizons = self.horizons
+        return twin
+
 
 class Edges:
     """The last point of each series that was let go."""
@@ -86,3 +92,9 @@ class Edges:
     def edge_of(self, place):
         """The last point of a series that was let go, or None."""
         return self.kept.get(place)
+
+    def twin(self):
+        """Other edges that keep the same, and go on by themselves."""
+        twin = Edges()
+        twin.kept = dict(self.kept)
+        return twin

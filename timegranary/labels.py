@@ -124,6 +124,10 @@ class Names:
             self.kept.append(labels)
         return self.place_by_pairs[labels.pairs]
 
+    def place_of(self, labels):
+        """The place of labels, None where they have none."""
+        return self.place_by_pairs.get(labels.pairs)
+
     def labels_at(self, place):
         """The labels at a place."""
         # A list would take a place below 0 from its end.

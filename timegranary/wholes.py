@@ -15,3 +15,19 @@ def read_figures(text, most):
     if text[0] == "0" and text != "0":
         return None
     return int(text)
+
+
+def read_whole(text, most):
+    """The number, also below 0, that a text writes in at most so many figures; None where it writes none."""
+    if not text.startswith("-"):
+        return read_figures(text, most)
+    number = read_figures(text[1:], most)
+    # There is no -0.
+    return -number if number else None
+
+
+def greatest_common(one, two):
+    """The greatest number that goes into two numbers from 0 on, not both 0."""
+    while two > 0:
+        one, two = two, one % two
+    return one
