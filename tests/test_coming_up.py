@@ -229,6 +229,21 @@ class ByMarks(unittest.TestCase):
         self.refused(10, lines + mark + last + line_of(10, "nothing") + "\n")
         self.refused(9, lines + mark + line_of(9, "nothing") + "\n")
 
+    def test_a_told_mark_ahead_of_another_one(self):
+        store = grown_store()
+        mark = store.mark()
+        store.put(A, 70, 1)
+        nine = store.lines().split("\n")[-2] + "\n"
+        other = store.mark()
+        store.put(A, 71, 1)
+        ten = store.lines().split("\n")[-2] + "\n"
+        again = come_up(nine + other + ten, mark=mark, **NAMED)
+        self.assertEqual(kept_by(again), kept_by(store))
+        self.assertEqual(again.lines(), mark + nine + other + ten)
+        self.assertEqual(kept_by(come_up(again.lines(), **NAMED)), kept_by(store))
+        self.refused(0, line_of(9, "nothing") + "\n" + other + ten, mark=mark)
+        self.refused(2, nine + other + line_of(10, "nothing") + "\n", mark=mark)
+
     def test_a_mark_of_a_store_that_came_up(self):
         store = grown_store()
         again = come_up(store.mark() + line_of(9, "put a=1 70 1") + "\n", **NAMED)

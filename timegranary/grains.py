@@ -56,13 +56,13 @@ class Grains:
 
     def fold_at(self, place, width, time):
         """The fold of the cell that a time is in."""
-        fold, since = self.cell_at(place, width, time)
-        return fold
+        cell = self.cell_at(place, width, time)
+        return Fold() if cell is None else cell[0]
 
     def since_at(self, place, width, time):
         """The number of the last deed that changed the fold of the cell that a time is in."""
-        fold, since = self.cell_at(place, width, time)
-        return since
+        cell = self.cell_at(place, width, time)
+        return 0 if cell is None else cell[1]
 
     def cells_of(self, place, width):
         """The starts, rising, of the cells with points."""
@@ -107,9 +107,9 @@ class Grains:
         return start < self.horizons.get(width, start)
 
     def cell_at(self, place, width, time):
-        """The fold and since of the cell that a time is in."""
+        """The fold and since of the cell that a time is in, None where nothing is kept."""
         check_width(self.widths, width)
-        return self.kept_cells(place, width).get(cell_of(time, width), (Fold(), 0))
+        return self.kept_cells(place, width).get(cell_of(time, width))
 
     def kept_cells(self, place, width):
         """The kept cells of a series and a width: by starts their folds and sinces."""

@@ -55,13 +55,6 @@ def tell_points(state, wishes, start, end, number):
     return [(labels, points) for labels, points in told if points]
 
 
-def is_usable(state, place, width, start, number):
-    """Whether the fold of a cell is kept and is that known at a number."""
-    if is_below(start, state.keeping.gone_before(width)):
-        return False
-    return state.grains.since_at(place, width, start) <= number
-
-
 def starts_worth_a_piece(state, place, width, start, end):
     """The starts of those cells in a stretch that a least plan may need."""
     horizon = state.keeping.gone_before()
@@ -75,13 +68,20 @@ def starts_worth_a_piece(state, place, width, start, end):
     return below + above
 
 
+def usable_cells(state, place, width, start, end, number):
+    """Of the cells that a least plan may need those whose folds are kept and are the ones known at a number."""
+    horizon = state.keeping.gone_before(width)
+    return [
+        (cell, cell + width) for cell in starts_worth_a_piece(state, place, width, start, end)
+        if not is_below(cell, horizon) and state.grains.since_at(place, width, cell) <= number
+    ]
+
+
 def plan_pieces(state, place, start, end, number, points):
     """The pieces of a least plan of a stretch that has a time, by the points known at a number; None without one."""
-    chosen = [
-        (cell, cell + width)
-        for width in state.grains.widths for cell in starts_worth_a_piece(state, place, width, start, end)
-        if is_usable(state, place, width, cell, number)
-    ]
+    chosen = []
+    for width in state.grains.widths:
+        chosen.extend(usable_cells(state, place, width, start, end, number))
     times = [time for time, worth in points_within(points, start, end)]
     told = least_plan(start, end, horizon=state.keeping.gone_before(), cells=chosen, points=times)
     return told[1] if told[0] == "plan" else None

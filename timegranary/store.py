@@ -199,42 +199,20 @@ def lines_up_to(lines, number):
 
 
 def behind_mark(text, mark):
-    """The text of a mark and of what a log's text has behind it, and how many lines of that were let lie."""
+    """The text of a mark and of what a log's text has behind it, and how far places in the log's text are from its."""
     number, sign, body = read_line(mark.rstrip("\n"))
     lines = text.split("\n")
     many = lines_up_to(lines[:-1], number)
-    return mark + "\n".join(lines[many:]), many
+    return mark + "\n".join(lines[many:]), many - 1
 
 
-def come_up(text, *, mark=None, widths=WIDTHS, keeps=KEEPS):
-    """The store that a log makes, or a mark and the lines behind it."""
-    store = Store(widths=widths, keeps=keeps)
-    if mark is None:
-        bring_up(store, text, 0)
-    else:
-        whole, many = behind_mark(text, mark)
-        # The mark's line is none of the text's.
-        bring_up(store, whole, many - 1)
-    return store
-
-
-def bring_up(store, text, offset):
-    """Let a new store do what a log's text tells; refused at the place of the first wrong line and the offset."""
+def log_of(text, offset):
+    """The log of a text; refused at the place of the first wrong line and the offset."""
     try:
         log, mark, bodies, rest = read_log(text)
     except NoLog as e:
         raise NoLog(e.at + offset) from None
-    first = log.begin + offset
-    if mark is not None:
-        take_mark(store, mark, first)
-        first += 1
-    for at, body in enumerate(bodies, start=first):
-        try:
-            do_deed(store, read_deed(body))
-        except (NoText, NoWish, NoNumber, TooLate):
-            raise NoLog(at) from None
-    # The lines stay as they were found, whatever signs they have.
-    store.log = log.trimmed()
+    return log
 
 
 def take_mark(store, mark, at):
@@ -244,3 +222,38 @@ def take_mark(store, mark, at):
     except NoText:
         raise NoLog(at) from None
     store.number = store.state.number
+
+
+def do_line(store, body, at):
+    """Let a store do the deed that the body of a line tells; refused at the line's place."""
+    try:
+        do_deed(store, read_deed(body))
+    except (NoText, NoWish, NoNumber, TooLate):
+        raise NoLog(at) from None
+
+
+def do_lines(store, lines, offset):
+    """Let a new store do what lines tell, of which the first may be a mark."""
+    for at, line in enumerate(lines, start=offset):
+        number, sign, body = read_line(line)
+        if sign != MARKS:
+            do_line(store, body, at)
+        elif at == offset:
+            take_mark(store, body, at)
+        # A later mark tells nothing but what was done ahead of it.
+
+
+def come_up(text, *, mark=None, widths=WIDTHS, keeps=KEEPS):
+    """The store that a log makes, or a mark and the lines behind it."""
+    store = Store(widths=widths, keeps=keeps)
+    if mark is None:
+        whole = log_of(text, 0)
+        offset = whole.begin
+        log = whole.trimmed()
+    else:
+        marked, offset = behind_mark(text, mark)
+        log = log_of(marked, offset)
+    do_lines(store, log.lines(), offset)
+    # The lines stay as they were found, whatever signs they have.
+    store.log = log
+    return store
