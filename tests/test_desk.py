@@ -221,6 +221,20 @@ class SayAll(unittest.TestCase):
         )
         self.assertEqual((desk.heard, desk.done, desk.ready), (8, 3, True))
 
+    def test_each_refusal_ends_it(self):
+        for row, name in (
+            ("put a=1 5 1", "!TooLate"), ("points 0..9 *", "!Gone"), ("latest b=1 99", "!NoSeries"), ("at 9 found *", "!NoNumber"),
+            ("found  *", "!NoText"),
+        ):
+            desk = small_desk("put a=1 50 1", "expire 99", keeps=(20, 40, None))
+            self.assertEqual(desk.say_all(["flush", row, "flush"]), ["-", name])
+            self.assertEqual((desk.heard, desk.done), (4, 3))
+
+    def test_an_ask_of_200_brackets(self):
+        desk = small_desk("put a=1 5 1")
+        row = "ask 0 10 1 " + "fill(last, " * 199 + "fold(sum, *)" + ")" * 199
+        self.assertEqual(desk.say(row), "a=1 1")
+
     def test_rows_without_refusals_and_none(self):
         desk = small_desk()
         self.assertEqual(desk.say_all([]), [])

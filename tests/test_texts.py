@@ -209,6 +209,12 @@ class AskTexts(Reading):
         # Brackets that are closed again don't count.
         wide = "both(plus, fold(sum, *), " * 150 + "fold(sum, *)" + ")" * 150
         self.assertEqual(ask_text(read_ask(wide)), wide)
+        self.refused(
+            read_ask, "both(plus, fold(sum, *), " + nested(199, "fold(sum, *)") + ")",
+            "both(plus, both(plus, fold(sum, *), fold(sum, *)), " + nested(199, "fold(sum, *)") + ")",
+        )
+        deepest = "both(plus, both(plus, fold(sum, *), fold(sum, *)), " + nested(198, "fold(sum, *)") + ")"
+        self.assertEqual(ask_text(read_ask(deepest)), deepest)
 
 
 class FoldTexts(unittest.TestCase):
