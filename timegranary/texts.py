@@ -117,12 +117,9 @@ def row_of(words):
 
 def deed_text(deed):
     """The text of a deed."""
-    word = deed[0]
-    if word == "put":
-        return f"put {row_text(deed[1:])}"
-    if word == "all":
+    if deed[0] == "all":
         return " ".join([f"all {len(deed[1])}"] + [row_text(row) for row in deed[1]])
-    if word == "strike":
+    if deed[0] == "strike":
         return f"strike {stretch_text(deed[2], deed[3])} {wishes_text(deed[1])}"
     return " ".join([str(part) for part in deed])
 
